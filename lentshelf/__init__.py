@@ -1,0 +1,1 @@
+"""Lentshelf: reckoning on shelves that are all lent."""
