@@ -1,4 +1,4 @@
-"""Expressions: what they are worth, how many words they have, how deep they are."""
+"""Expressions: what they are worth; how many words they have, how deep they are, and so of papers."""
 
 
 def worth(n, expr, givens):
@@ -18,8 +18,8 @@ def worth(n, expr, givens):
 
 
 def is_single(expr):
-    """Whether the expression is a num or a given, with no expressions in it."""
-    return expr[0] == "num" or expr[0] == "given"
+    """Whether it is a num or a given, or of a paper a one, with nothing in it that has words itself."""
+    return expr[0] in ("num", "given", "one")
 
 
 def words(expr):
@@ -30,7 +30,7 @@ def words(expr):
 
 
 def depth(expr):
-    """How deep the expression is, 0 for a num or a given."""
+    """How deep it is, 0 for a num or a given."""
     if is_single(expr):
         return 0
     return 1 + max(depth(expr[1]), depth(expr[2]))

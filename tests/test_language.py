@@ -135,6 +135,20 @@ class TestLanguage(unittest.TestCase):
             if isinstance(node, ast.Call) and isinstance(node.func, ast.Attribute):
                 self.assertTrue(node.func.attr in OWN_METHODS or node.func.attr in own, where)
 
+    def test_methods_and_values_of_objects(self):
+        methods, values = set(), set()
+        for where, node in self.nodes():
+            if isinstance(node, ast.ClassDef):
+                methods.update([row.name for row in node.body if isinstance(row, ast.FunctionDef)])
+                for row in node.body:
+                    self.assertIsInstance(row, (ast.FunctionDef, ast.Expr), where)
+            if isinstance(node, ast.Attribute) and isinstance(node.ctx, ast.Store):
+                values.add(node.attr)
+        self.assertEqual(methods & values, set())
+        for where, node in self.nodes():
+            if isinstance(node, ast.Attribute):
+                self.assertIn(node.attr, methods | values | set(OWN_METHODS), where)
+
     def test_imports(self):
         draws = {}
         for name, tree in self.trees.items():
